@@ -346,10 +346,6 @@ func TestP19_1FullBox(t *testing.T) {
 	if p, v := prove(t, b, "pw", []byte("s"), 1, "m"); !bytes.Equal(p, zero) || !bytes.Equal(v, zero) {
 		t.Errorf("%x %x", p, v)
 	}
-	x := proof.Dummy(b, "t", "eve", 1)
-	if !bytes.Equal(x.Stored, zero) || !bytes.Equal(x.Server, zero) || !bytes.Equal(x.HA1, zero) || !bytes.Equal(x.Salt, hash("salt t eve")[:16]) {
-		t.Error(x)
-	}
 	if p := proof.Response(b, proof.HA1(b, "u", "r", "p"), "GET", digest.Answer{}); !bytes.Equal(p, zero) || b.Len() != api.MaxTerms {
 		t.Errorf("%x", p)
 	}
@@ -559,18 +555,47 @@ func TestP19_2Dummy(t *testing.T) {
 	}
 }
 
-// The salt is the same in every box. The other parts are hashes of the box.
+// All parts are the same whatever the box is, and whatever it holds. None of them is computed by the box.
 func TestP19_2DummySymbolic(t *testing.T) {
 	for _, c := range names {
-		b := box.New(true)
 		whose := " " + c[0] + " " + c[1]
-		want := cred.Secret{Salt: hash("salt" + whose)[:16], Iter: 7, Stored: box.Handle(1), Server: box.Handle(2), HA1: box.Handle(3)}
+		want := cred.Secret{Salt: hash("salt" + whose)[:16], Iter: 7, Stored: hash("stored" + whose), Server: hash("server" + whose), HA1: hash("ha1" + whose)}
+		b := box.New(true)
 		for range 2 {
 			if x := proof.Dummy(b, c[0], c[1], 7); !reflect.DeepEqual(x, want) {
-				t.Errorf("%q: %v", c, x)
+				t.Errorf("%q: %v, not %v", c, x, want)
 			}
-			sameTerms(t, b, 1, hashed("stored"+whose), hashed("server"+whose), hashed("ha1"+whose))
+			sameTerms(t, b, 1)
 		}
+		// Not even where the box has those very terms.
+		for _, part := range []string{"salt", "stored", "server", "ha1"} {
+			b.Hash([]byte(part + whose))
+		}
+		if x := proof.Dummy(b, c[0], c[1], 7); !reflect.DeepEqual(x, want) {
+			t.Errorf("%q: %v, not %v", c, x, want)
+		}
+		sameTerms(t, b, 1, hashed("salt"+whose), hashed("stored"+whose), hashed("server"+whose), hashed("ha1"+whose))
+	}
+}
+
+// A dummy takes no room: a box without room for another term doesn't become full by it, and in a full box it is no other one.
+func TestP19_2DummyFullBox(t *testing.T) {
+	b := box.New(true)
+	for i := range api.MaxTerms {
+		b.Hash([]byte(fmt.Sprint("filler ", i)))
+	}
+	want := proof.Dummy(box.New(false), "t", "eve", 5)
+	for _, full := range []bool{false, true} {
+		if full {
+			b.Hash([]byte("one too many"))
+		}
+		if x := proof.Dummy(b, "t", "eve", 5); !reflect.DeepEqual(x, want) || b.Full() != full || b.Len() != api.MaxTerms {
+			t.Errorf("%v, full %v with %d terms", x, b.Full(), b.Len())
+		}
+	}
+	// So the zero tags of a full box don't pass for its parts.
+	if e := proof.Check(b, want, "m", make([]byte, 32)); e != api.ErrProof {
+		t.Error(e)
 	}
 }
 
