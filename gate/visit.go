@@ -14,6 +14,7 @@ import (
 	"ostiary/pipe"
 	"ostiary/talk"
 	"ostiary/ticket"
+	"ostiary/wire"
 )
 
 // The states of a connection.
@@ -23,25 +24,6 @@ const (
 	asked
 	inside
 	opened
-)
-
-// The kinds of frames: those that a client sends, then those that it is sent.
-const (
-	frameHello = 1 + iota
-	frameFirst
-	frameFinal
-	frameAsk
-	frameShow
-	frameOpen
-	frameData
-	frameClose
-	frameSay
-	frameAnswer
-	frameTicket
-	frameOpened
-	frameSent // the bytes of the upstream server
-	frameClosed
-	frameError
 )
 
 // The kinds of events.
@@ -143,22 +125,22 @@ func (v *visit) frames() {
 // process processes one frame.
 func (v *visit) process(f frame.Frame) {
 	switch f.Kind {
-	case frameHello:
+	case wire.Hello:
 		v.handle(fresh, v.hello, f.Body)
-	case frameFirst:
+	case wire.First:
 		v.handle(known, v.first, f.Body)
-	case frameFinal:
+	case wire.Final:
 		v.handle(asked, v.final, f.Body)
-	case frameAsk:
+	case wire.Ask:
 		v.handle(known, v.ask, f.Body)
-	case frameShow:
+	case wire.Show:
 		v.handle(known, v.show, f.Body)
-	case frameOpen:
+	case wire.Open:
 		v.handle(inside, v.open, f.Body)
-	case frameData:
+	case wire.Data:
 		v.handle(opened, v.data, f.Body)
-	case frameClose:
-		v.send(frameClosed, nil)
+	case wire.Close:
+		v.send(wire.Closed, nil)
 		v.remove(eventClose)
 	default:
 		v.refuse(api.ErrForm)
@@ -199,7 +181,7 @@ func (v *visit) first(body []byte) api.Errno {
 	}
 	exchange, _ := talk.New(v.gate.office(), v.conn.view.Tenant)
 	reply, errno := exchange.First(string(body), draw, v.gate.Now())
-	v.send(frameSay, []byte(reply))
+	v.send(wire.Say, []byte(reply))
 	if errno != api.OK {
 		v.logError(eventFail, errno)
 		return api.OK
@@ -218,7 +200,7 @@ func (v *visit) final(body []byte) api.Errno {
 		return errno
 	}
 	reply, errno := exchange.Final(string(body), v.gate.Now())
-	v.send(frameSay, []byte(reply))
+	v.send(wire.Say, []byte(reply))
 	if exchange.Checked() {
 		v.gate.checks++
 	}
@@ -257,7 +239,7 @@ func (v *visit) show(body []byte) api.Errno {
 func (v *visit) open(body []byte) api.Errno {
 	errno := v.connect(string(body))
 	if errno == api.OK {
-		v.send(frameOpened, body)
+		v.send(wire.Opened, body)
 	}
 	return errno
 }
@@ -291,7 +273,7 @@ func (v *visit) fromUpstream(data []byte) api.Errno {
 	}
 	v.conn.tunnel.Write(pipe.Down, data)
 	for part := range v.conn.tunnel.Chunks(pipe.Down, piece) {
-		v.send(frameSent, part)
+		v.send(wire.Sent, part)
 	}
 	return api.OK
 }
@@ -329,7 +311,7 @@ func (v *visit) sendTicket() {
 	}
 	text, _, errno := v.gate.hands.Tickets.Mint(v.conn.view.Who, v.conn.view.Gen, v.gate.Now())
 	if errno == api.OK {
-		v.send(frameTicket, []byte(text))
+		v.send(wire.Ticket, []byte(text))
 	}
 }
 
@@ -382,7 +364,7 @@ func (v *visit) remove(event string) {
 
 // refuse tells the client an error.
 func (v *visit) refuse(errno api.Errno) {
-	v.send(frameError, []byte{byte(errno)})
+	v.send(wire.Error, []byte{byte(errno)})
 }
 
 // send sends the client a frame. None that the gate sends is too long for one.
